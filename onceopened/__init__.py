@@ -1,0 +1,1 @@
+"""Packs that are opened and never closed."""
