@@ -185,10 +185,20 @@ class Book:
             worths[kind] = 1 + max([int(_weigh(opening.contents, worths)) for opening in self[kind]], default=0)
         return _weigh(lot, worths)
 
+    def forked_kinds(self):
+        """The ascending list of the kinds that have at least two Openings."""
+        rows = [opening.kind for opening in self._openings]
+        return [kind for kind in sorted(set(rows)) if rows.count(kind) > 1]
+
+    def shared_kinds(self):
+        """The ascending list of the kinds that lie in at least two Openings."""
+        # A part stands once in these rows for each Opening in which it lies.
+        rows = [part for kind in self._parts for part in self._parts[kind]]
+        return [part for part in sorted(set(rows)) if rows.count(part) > 1]
+
     def is_plain(self):
         """Whether each kind has at most one Opening, or no kind lies in two Openings."""
-        kinds = self.kinds()
-        return all([len(self[kind]) < 2 for kind in kinds]) or all([len(self.holders(kind)) < 2 for kind in kinds])
+        return len(self.forked_kinds()) == 0 or len(self.shared_kinds()) == 0
 
     def text(self):
         """The texts of the Openings, ascending, with line feeds between."""

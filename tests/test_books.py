@@ -304,6 +304,17 @@ class WorthTest(unittest.TestCase):
         self.assertEqual((book.worth(Lot.of("1 aa")), len(book.inside("aa"))), (16, 15))
 
 
+class SeveralTest(unittest.TestCase):
+    def test_kinds_with_two_openings_and_kinds_in_two(self):
+        for text, forks, meeting in (
+            ("-", [], []), ("a = 1 b", [], []), ("a = 2 b\nb = 2 c", [], []), ("a = 1 c\nb = 1 c", [], ["c"]),
+            ("a = 1 b\na = 1 c", ["a"], []), ("a = 1 b\na = 2 b\na = 3 b", ["a"], ["b"]),
+            ("z = 1 q\nz = 1 p\nb = 1 q\nb = 1 p 1 y\nc = 1 x 1 y", ["b", "z"], ["p", "q", "y"]),
+        ):
+            book = Book.of(text)
+            self.assertEqual((book.forked_kinds(), book.shared_kinds()), (forks, meeting))
+
+
 class PlainTest(unittest.TestCase):
     def test_plain(self):
         for text in (

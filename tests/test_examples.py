@@ -1,10 +1,14 @@
-"""The examples of [4] and [5], as the document shows them."""
+"""The examples of [4] to [7], [10] and [13], as the document shows them."""
 
 import unittest
 
 from onceopened.books import Book, Opening
-from onceopened.errors import BadText, Short
+from onceopened.errors import BadText, Short, Uneven
+from onceopened.forms import alike, covers, form, idle, parted
 from onceopened.lots import Lot
+from onceopened.numbers import forked, join, lack, lot_of, meet, numbers, times
+from onceopened.plans import Plan, gives, plan_for
+from onceopened.remains import becomes, leftovers
 
 
 class ExamplesTest(unittest.TestCase):
@@ -42,4 +46,72 @@ class ExamplesTest(unittest.TestCase):
             ((Book((box,)) | Book((pair,))) == book, len(book - Book((box,))), pair in book,
              book.holders("cup") == [pair], box < pair, box.contents.text()),
             (True, 1, True, True, True, "3 pair"),
+        )
+
+    def test_plans(self):
+        box, pair = Opening("box", Lot.of("3 pair")), Opening("pair", Lot.of("2 cup"))
+        book, stock = Book((box, pair)), Lot.of("2 box 1 cup")
+        plan = plan_for(book, stock, Lot.of("8 cup"))
+        self.assertEqual(
+            (plan[box], plan[pair], len(plan), abs(plan), plan.after(stock).text(),
+             (plan - Plan(((pair, 1),))).after(stock).text()),
+            (2, 4, 2, 6, "9 cup 2 pair", "7 cup 3 pair"),
+        )
+        self.assertEqual(
+            (gives(book, stock, Lot.of("13 cup")), gives(book, stock, Lot.of("1 box 8 cup")),
+             plan_for(book, stock, Lot.of("14 cup"))),
+            (True, False, None),
+        )
+        with self.assertRaises(Short) as caught:
+            Plan(((pair, 4), (box, 1))).after(stock)
+        self.assertEqual((caught.exception.kind, caught.exception.lacking), ("pair", 1))
+        chest = Book.of("chest = 2 nut\nchest = 1 bolt 1 nut")
+        self.assertEqual(
+            (gives(chest, Lot.of("3 chest"), Lot.of("2 bolt 4 nut")),
+             gives(chest, Lot.of("3 chest"), Lot.of("2 bolt 5 nut")),
+             abs(plan_for(chest, Lot.of("3 chest"), Lot.of("1 nut")))),
+            (True, False, 1),
+        )
+
+    def test_forms(self):
+        book = Book.of("case = 2 pack\ncase = 4 cup\npack = 2 cup")
+        self.assertEqual(
+            ([opening.text() for opening in idle(book)], form(book).text(), alike(book, form(book))),
+            (["case = 4 cup"], "case = 2 pack\npack = 2 cup", True),
+        )
+        one, other = Book.of("case = 1 cup 1 pack\npack = 1 cup"), Book.of("case = 2 pack\npack = 1 cup")
+        self.assertEqual(
+            (covers(other, one), covers(one, other), parted(one, other).text()), (True, False, "case = 2 pack"))
+
+    def test_numbers(self):
+        rows = Book.of("y = 1 a 2 k\nz = 3 k\nk = 2 m")
+        self.assertEqual(
+            (numbers(rows, Lot.of("1 y 1 z")).text(), lot_of(rows, Lot.of("1 a 5 k 12 m 1 y 1 z")).text(),
+             lack(rows, Lot.of("1 y 1 z"), Lot.of("2 k 3 m 1 z"))),
+            ("1 a 5 k 10 m 1 y 1 z", "2 m 1 y 1 z", ("m", 10, 13)),
+        )
+        self.assertEqual(
+            (meet(rows, Lot.of("1 y 1 z"), Lot.of("4 k 1 y")).text(),
+             join(rows, Lot.of("1 y 1 z"), Lot.of("4 k 1 y")).text(),
+             times(rows, Lot.of("2 y 1 z"), Lot.of("1 k 1 m"))),
+            ("3 k 1 y", "1 k 1 y 1 z", 4),
+        )
+        with self.assertRaises(Uneven) as caught:
+            lot_of(rows, Lot.of("2 k 4 m 1 y"))
+        self.assertEqual(caught.exception.kind, "a")
+        self.assertEqual(
+            (forked(Book.of("y = 2 x\ny = 4 p\nx = 2 p")), forked(Book.of("y = 1 p\ny = 1 q"))), ([], ["y"]))
+
+    def test_remains(self):
+        book, stock = Book.of("case = 1 cup 1 pack\npack = 1 cup 1 lid"), Lot.of("1 case 1 pack")
+        self.assertEqual(
+            ([lot.text() for lot in becomes(book, Lot.of("1 case"))],
+             [lot.text() for lot in leftovers(book, stock, Lot.of("1 cup"))]),
+            (["1 case", "1 cup 1 pack", "2 cup 1 lid"], ["1 case 1 lid", "2 pack"]),
+        )
+        deep = Book.of("w = 1 y 1 z\nw = 1 v\nv = 1 q 1 x\nq = 1 t 1 z\nq = 1 u 1 y\ny = 1 t 1 x\nz = 1 u 1 x")
+        self.assertEqual(
+            ([lot.text() for lot in leftovers(deep, Lot.of("1 y 1 z"), Lot.of("1 x"))],
+             [lot.text() for lot in leftovers(deep, Lot.of("1 w"), Lot.of("1 x"))]),
+            (["1 t 1 z", "1 u 1 y"], ["1 q"]),
         )

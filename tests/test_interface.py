@@ -3,9 +3,10 @@
 import inspect
 import unittest
 
-from onceopened import books, lots
+from onceopened import books, forms, lots, numbers, plans, remains
 from onceopened.books import Book, Opening
 from onceopened.lots import Lot
+from onceopened.plans import Plan
 
 METHODS = {
     Lot: (
@@ -17,12 +18,24 @@ METHODS = {
         "__init__ __contains__ __len__ __eq__ __getitem__ openings holders kinds inside __or__ __sub__ worth "
         "is_plain text of"
     ),
+    Plan: "__init__ __getitem__ openings __len__ __abs__ __eq__ __add__ __mul__ __rmul__ __sub__ after fits",
+}
+
+# For each file its functions with the names of their arguments.
+FUNCTIONS = {
+    plans: "gives(book, stock, ask) plan_for(book, stock, ask)",
+    forms: "idle(book) form(book) covers(book, other) alike(one, other) parted(one, other)",
+    remains: "becomes(book, stock) leftovers(book, stock, ask)",
+    numbers: (
+        "forked(book) numbers(book, lot) lot_of(book, counts) lack(book, stock, ask) meet(book, one, other) "
+        "join(book, one, other) times(book, stock, ask)"
+    ),
 }
 
 
 class InterfaceTest(unittest.TestCase):
     def test_classes_are_defined_in_their_files(self):
-        for module, made in ((lots, Lot), (books, Opening), (books, Book)):
+        for module, made in ((lots, Lot), (books, Opening), (books, Book), (plans, Plan)):
             self.assertEqual(made.__module__, module.__name__)
 
     def test_methods_are_defined_in_the_class_itself(self):
@@ -30,6 +43,15 @@ class InterfaceTest(unittest.TestCase):
             for name in names.split():
                 with self.subTest(made=made.__name__, name=name):
                     self.assertIn(name, vars(made))
+
+    def test_functions_are_defined_in_their_files_with_the_arguments_shown(self):
+        for module, text in FUNCTIONS.items():
+            for shown in text.replace(") ", ")\n").split("\n"):
+                name = shown.partition("(")[0]
+                with self.subTest(function=shown):
+                    function = getattr(module, name)
+                    self.assertEqual(function.__module__, module.__name__)
+                    self.assertEqual(name + str(inspect.signature(function)), shown)
 
     def test_of_is_a_class_method_and_contents_a_property(self):
         self.assertIsInstance(vars(Lot)["of"], classmethod)
@@ -41,7 +63,8 @@ class InterfaceTest(unittest.TestCase):
             (Lot, ["pairs"]), (Lot.of, ["text"]), (Lot().kinds, []), (Lot().pairs, []), (Lot().text, []),
             (Lot().within, ["other"]), (Opening, ["kind", "contents"]), (Book, ["openings"]), (Book.of, ["text"]),
             (Book().openings, []), (Book().holders, ["kind"]), (Book().kinds, []), (Book().inside, ["kind"]),
-            (Book().worth, ["lot"]), (Book().is_plain, []), (Book().text, []),
+            (Book().worth, ["lot"]), (Book().is_plain, []), (Book().text, []), (Plan, ["counts"]),
+            (Plan().openings, []), (Plan().after, ["stock"]), (Plan().fits, ["book"]),
         )
         for call, names in shown:
             self.assertEqual(list(inspect.signature(call).parameters), names)
@@ -57,3 +80,5 @@ class InterfaceTest(unittest.TestCase):
         self.assertEqual(book.holders(kind="cup"), [box])
         self.assertEqual(book.inside(kind="box"), ["cup"])
         self.assertEqual(book.worth(lot=lot), 2)
+        plan = Plan(counts=[[box, 1]])
+        self.assertEqual((plan.after(stock=Lot.of("1 box")), plan.fits(book=book)), (lot, True))
