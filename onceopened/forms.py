@@ -1,7 +1,7 @@
 """Forms: what two Books that give the same have in common."""
 
 from onceopened.books import Book
-from onceopened.lots import Lot
+from onceopened.lots import one_of
 from onceopened.plans import gives
 
 
@@ -13,7 +13,7 @@ def _is_idle(book, opening):
 
 def _can(book, opening):
     """Whether the Book gives the contents of an Opening, of whatever Book, from one piece of its kind."""
-    return gives(book, Lot(((opening.kind, 1),)), opening.contents)
+    return gives(book, one_of(opening.kind), opening.contents)
 
 
 def idle(book):

@@ -144,3 +144,13 @@ class Lot:
         if len(self) == 0:
             return "-"
         return " ".join([f"{many} {kind}" for kind, many in self.pairs()])
+
+
+def one_of(kind):
+    """The Lot of a single piece."""
+    return Lot(((kind, 1),))
+
+
+def copy_of(lot):
+    """A new Lot that is equal to the given one."""
+    return Lot(lot.pairs())

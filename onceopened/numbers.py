@@ -2,7 +2,7 @@
 
 from onceopened.errors import Forked, Uneven
 from onceopened.forms import form
-from onceopened.lots import Lot
+from onceopened.lots import copy_of
 
 
 def _held(kept, counts, kind):
@@ -17,7 +17,7 @@ def _outer_first(kept):
 
 def _numbers_of(kept, lot):
     """The number of each kind in a Lot."""
-    found = Lot(lot.pairs())
+    found = copy_of(lot)
     for kind in _outer_first(kept):
         found[kind] = found[kind] + _held(kept, found, kind)
     return found
@@ -25,13 +25,22 @@ def _numbers_of(kept, lot):
 
 def _lot_with(kept, counts):
     """The Lot with these numbers."""
-    found = Lot(counts.pairs())
+    found = copy_of(counts)
     for kind in kept.kinds():
         held = _held(kept, counts, kind)
         if counts[kind] < held:
             raise Uneven(kind)
         found[kind] = counts[kind] - held
     return found
+
+
+def least_with(kept, counts):
+    """The least Lot that has these numbers or greater ones."""
+    found = copy_of(counts)
+    # With more pieces of the outer kinds more of the inner kinds come.
+    for kind in _outer_first(kept):
+        found[kind] = max(int(found[kind]), _held(kept, found, kind))
+    return _lot_with(kept, found)
 
 
 def unforked(book):
@@ -78,11 +87,7 @@ def meet(book, one, other):
 def join(book, one, other):
     """The least Lot that gives both."""
     kept = unforked(book)
-    found = _numbers_of(kept, one) | _numbers_of(kept, other)
-    # With more pieces of the outer kinds than either Lot has, more of the inner kinds come than in either.
-    for kind in _outer_first(kept):
-        found[kind] = max(int(found[kind]), _held(kept, found, kind))
-    return _lot_with(kept, found)
+    return least_with(kept, _numbers_of(kept, one) | _numbers_of(kept, other))
 
 
 def times(book, stock, ask):

@@ -165,10 +165,16 @@ class Plan:
 
     def left(self, stock, ask):
         """The Lot that is left behind the Plan without the ask; Short tells what the Plan and the ask lack together."""
+        return stock + self.come() - (self.gone() + ask)
+
+    def gone(self):
+        """The Lot of all pieces that are opened."""
+        return Lot([(opening.kind, many) for opening, many in self.counts()])
+
+    def come(self):
+        """The Lot of all that comes out of them."""
         rows = self.counts()
-        gone = Lot([(opening.kind, many) for opening, many in rows])
-        come = Lot([(kind, each * many) for opening, many in rows for kind, each in opening.contents.pairs()])
-        return stock + come - (gone + ask)
+        return Lot([(kind, each * many) for opening, many in rows for kind, each in opening.contents.pairs()])
 
     def fits(self, book):
         """Whether all its Openings are in the Book."""

@@ -113,3 +113,20 @@ def ask_of(chance, book, stock, kinds="abcdef"):
     if chance.random() < 0.2:
         lot = lot + one_of(chance.choice(kinds))
     return lot
+
+
+def given(rows, stock):
+    """All bags that a stock gives."""
+    return {part for bag in becomes(rows, stock) for part in parts_of(bag)}
+
+
+def left_behind(rows, stock, ask):
+    """All that can be left of a stock when an ask is served, nothing thrown away."""
+    return {added(bag, ask, -1) for bag in becomes(rows, stock) if lies_in(ask, bag)}
+
+
+def is_regret(rows, stock, ask, first, second):
+    """As the document says: both can be served, and no leftover behind the ask gives each of both."""
+    if not all(gives(rows, stock, added(ask, more)) for more in (first, second)):
+        return False
+    return not any(gives(rows, left, first) and gives(rows, left, second) for left in left_behind(rows, stock, ask))

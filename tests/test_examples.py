@@ -1,14 +1,17 @@
-"""The examples of [4] to [7], [10] and [13], as the document shows them."""
+"""The examples of the document, as it shows them."""
 
 import unittest
 
 from onceopened.books import Book, Opening
-from onceopened.errors import BadText, Short, Uneven
+from onceopened.errors import BadText, Regretted, Short, Uneven
 from onceopened.forms import alike, covers, form, idle, parted
+from onceopened.lattices import is_tree, skew, torn
 from onceopened.lots import Lot
 from onceopened.numbers import forked, join, lack, lot_of, meet, numbers, times
 from onceopened.plans import Plan, gives, plan_for
+from onceopened.regrets import Hand, Regret, asked_only, is_regret, regret, shared
 from onceopened.remains import becomes, leftovers
+from onceopened.shelves import Shelf, least, leftover
 
 
 class ExamplesTest(unittest.TestCase):
@@ -82,6 +85,77 @@ class ExamplesTest(unittest.TestCase):
         one, other = Book.of("case = 1 cup 1 pack\npack = 1 cup"), Book.of("case = 2 pack\npack = 1 cup")
         self.assertEqual(
             (covers(other, one), covers(one, other), parted(one, other).text()), (True, False, "case = 2 pack"))
+
+    def test_regrets(self):
+        book, start = Book.of("case = 1 cup 1 pack\npack = 2 cup"), Lot.of("1 case 1 pack")
+        self.assertEqual(
+            (shared(book), is_regret(book, start, Lot.of("1 cup"), Lot.of("1 case"), Lot.of("2 pack")),
+             is_regret(book, start, Lot.of("1 cup"), Lot.of("1 pack"), Lot.of("1 case 1 cup"))),
+            (["cup"], True, False),
+        )
+        found = Regret(book, Lot.of("1 case 1 pack"), Lot.of("1 cup"), Lot.of("1 case"), Lot.of("2 pack"))
+        self.assertEqual(
+            ([plan.after(found.stock).text() for plan in found.plans()],
+             [lot.text() for lot in found.rows(1, "hat")[1]], len(found.beat(Hand(book), Lot()))),
+            (["1 case 2 cup", "1 cup 2 pack"], ["1 cup", "1 hat", "2 pack"], 2),
+        )
+        few = Book.of("four = 2 two\nfour = 4 one\ntwo = 2 one")
+        boxes = Book.of("box = 1 case 1 hat\ncase = 1 cup 1 pack\npack = 2 cup")
+        self.assertEqual(
+            (shared(few), regret(few) is None, asked_only(boxes, ["box", "cup", "pack"]).text(),
+             asked_only(book, ["case", "cup"]).text()),
+            ([], True, "box = 1 cup 1 pack\npack = 2 cup", "case = 3 cup"),
+        )
+
+    def test_shelves(self):
+        book = Book.of("box = 3 pair\npair = 2 cup")
+        plan = least(book, Lot.of("1 box 1 cup"), Lot.of("3 cup 1 pair"))
+        self.assertEqual(
+            ([(opening.text(), plan[opening]) for opening in plan.openings()],
+             leftover(book, Lot.of("1 box 1 cup"), Lot.of("3 cup 1 pair")).text()),
+            ([("box = 3 pair", 1), ("pair = 2 cup", 1)], "1 pair"),
+        )
+        self.assertEqual(
+            leftover(Book.of("four = 2 two\nfour = 3 one\ntwo = 2 one"), Lot.of("1 four"), Lot.of("3 one")).text(),
+            "1 one",
+        )
+        shelf = Shelf(book, Lot.of("2 box"))
+        shelf -= Lot.of("1 cup")
+        self.assertEqual(
+            (shelf.stock.text(), Lot.of("1 box 2 pair") in shelf, Lot.of("1 box 3 pair") in shelf,
+             shelf // Lot.of("1 cup")),
+            ("1 box 1 cup 2 pair", True, False, 11),
+        )
+        shelf += Lot.of("1 pair")
+        shelf -= Lot.of("1 box 3 pair")
+        self.assertEqual(
+            (shelf.stock.text(), shelf.served().text(), shelf.arrived().text(), abs(shelf.opened())),
+            ("1 cup", "1 box 1 cup 3 pair", "1 pair", 2),
+        )
+        shelf.undo()
+        shelf.undo()
+        self.assertEqual(
+            (shelf.stock.text(), shelf.served().text(), shelf.arrived().text()), ("1 box 1 cup 2 pair", "1 cup", "-"))
+        with self.assertRaises(Short) as caught:
+            least(book, Lot.of("2 box"), Lot.of("13 cup"))
+        self.assertEqual((caught.exception.kind, caught.exception.lacking), ("box", 1))
+        gifts = Book.of("gift = 2 cup 1 tea\nsix = 6 cup")
+        for call in (lambda: least(gifts, Lot(), Lot()), lambda: leftover(gifts, Lot(), Lot()),
+                     lambda: Shelf(gifts, Lot())):
+            with self.assertRaises(Regretted) as refused:
+                call()
+            self.assertEqual(refused.exception.kind, "cup")
+
+    def test_lattices(self):
+        rows = Book.of("y = 1 a 2 k\nz = 3 k\nk = 2 m")
+        self.assertEqual(
+            ([lot.text() for lot in torn(Book.of("y = 1 p\ny = 1 q"))], torn(rows), is_tree(rows),
+             skew(Book.of("y = 2 p"))),
+            (["1 y", "1 p 1 q", "1 p", "1 q"], None, False, None),
+        )
+        top, left, right = skew(rows)
+        self.assertFalse(
+            meet(rows, top, join(rows, left, right)) == join(rows, meet(rows, top, left), meet(rows, top, right)))
 
     def test_numbers(self):
         rows = Book.of("y = 1 a 2 k\nz = 3 k\nk = 2 m")

@@ -3,10 +3,12 @@
 import inspect
 import unittest
 
-from onceopened import books, forms, lots, numbers, plans, remains
+from onceopened import books, forms, lattices, lots, numbers, plans, regrets, remains, shelves
 from onceopened.books import Book, Opening
 from onceopened.lots import Lot
 from onceopened.plans import Plan
+from onceopened.regrets import Hand, Regret, regret
+from onceopened.shelves import Shelf
 
 METHODS = {
     Lot: (
@@ -19,6 +21,9 @@ METHODS = {
         "is_plain text of"
     ),
     Plan: "__init__ __getitem__ openings __len__ __abs__ __eq__ __add__ __mul__ __rmul__ __sub__ after fits",
+    Regret: "__init__ stock ask first second plans rows beat",
+    Hand: "__init__ __call__",
+    Shelf: "__init__ serve __isub__ __iadd__ __contains__ __floordiv__ stock served arrived opened undo",
 }
 
 # For each file its functions with the names of their arguments.
@@ -30,12 +35,18 @@ FUNCTIONS = {
         "forked(book) numbers(book, lot) lot_of(book, counts) lack(book, stock, ask) meet(book, one, other) "
         "join(book, one, other) times(book, stock, ask)"
     ),
+    regrets: (
+        "shared(book) regret(book) is_regret(book, stock, ask, first, second) asked_only(book, kinds)"
+    ),
+    shelves: "least(book, stock, ask) leftover(book, stock, ask)",
+    lattices: "torn(book) skew(book) is_tree(book)",
 }
 
 
 class InterfaceTest(unittest.TestCase):
     def test_classes_are_defined_in_their_files(self):
-        for module, made in ((lots, Lot), (books, Opening), (books, Book), (plans, Plan)):
+        for module, made in ((lots, Lot), (books, Opening), (books, Book), (plans, Plan), (regrets, Regret),
+                             (regrets, Hand), (shelves, Shelf)):
             self.assertEqual(made.__module__, module.__name__)
 
     def test_methods_are_defined_in_the_class_itself(self):
@@ -53,13 +64,20 @@ class InterfaceTest(unittest.TestCase):
                     self.assertEqual(function.__module__, module.__name__)
                     self.assertEqual(name + str(inspect.signature(function)), shown)
 
-    def test_of_is_a_class_method_and_contents_a_property(self):
+    def test_class_methods_and_properties(self):
         self.assertIsInstance(vars(Lot)["of"], classmethod)
         self.assertIsInstance(vars(Book)["of"], classmethod)
-        self.assertIsInstance(vars(Opening)["contents"], property)
+        for made, name in ((Opening, "contents"), (Regret, "stock"), (Regret, "ask"), (Regret, "first"),
+                           (Regret, "second"), (Shelf, "stock")):
+            self.assertIsInstance(vars(made)[name], property)
 
     def test_arguments_have_the_names_shown(self):
+        found, shelf = regret(Book.of("a = 1 k\nb = 1 k")), Shelf(Book(), Lot())
         shown = (
+            (Regret, ["book", "stock", "ask", "first", "second"]), (found.plans, []), (found.rows, ["ahead", "kind"]),
+            (found.beat, ["keeper", "extra"]), (Hand, ["book"]), (Hand(Book()), ["stock", "asks"]),
+            (Shelf, ["book", "stock"]), (shelf.serve, ["ask"]), (shelf.served, []), (shelf.arrived, []),
+            (shelf.opened, []), (shelf.undo, []),
             (Lot, ["pairs"]), (Lot.of, ["text"]), (Lot().kinds, []), (Lot().pairs, []), (Lot().text, []),
             (Lot().within, ["other"]), (Opening, ["kind", "contents"]), (Book, ["openings"]), (Book.of, ["text"]),
             (Book().openings, []), (Book().holders, ["kind"]), (Book().kinds, []), (Book().inside, ["kind"]),

@@ -4,7 +4,7 @@ import itertools
 import unittest
 
 from onceopened.errors import Below, Nothing, Short
-from onceopened.lots import Lot
+from onceopened.lots import Lot, copy_of, one_of
 
 GREAT = 10 ** 12
 BEYOND = 7 * 10 ** 40
@@ -317,3 +317,17 @@ class InPlaceTest(unittest.TestCase):
         self.assertEqual(lot["a"], GREAT + BEYOND)
         lot -= Lot((("a", BEYOND),))
         self.assertEqual(lot["a"], GREAT)
+
+
+class NewLotsTest(unittest.TestCase):
+    def test_a_single_piece(self):
+        one_of("cup")["cup"] = 5
+        self.assertEqual(one_of("cup").pairs(), (("cup", 1),))
+
+    def test_a_copy(self):
+        lot = Lot((("a", 5), ("b", BEYOND)))
+        copy = copy_of(lot)
+        self.assertEqual(copy, lot)
+        copy += one_of("b")
+        lot["a"] = 1
+        self.assertEqual((copy.pairs(), lot.pairs()), ((("a", 5), ("b", BEYOND + 1)), (("a", 1), ("b", BEYOND))))

@@ -7,7 +7,7 @@ from onceopened.books import Book
 from onceopened.errors import Forked, Nothing, Uneven
 from onceopened.forms import form
 from onceopened.lots import Lot
-from onceopened.numbers import forked, join, lack, lot_of, meet, numbers, times, unforked
+from onceopened.numbers import forked, join, lack, least_with, lot_of, meet, numbers, times, unforked
 from tests import brute
 
 GREAT = 10 ** 12
@@ -117,6 +117,19 @@ class OfLotsTest(NumbersTest):
 
     def test_a_kind_without_holders_is_never_uneven(self):
         self.assertEqual(lot_of(ROWS, lot("9 a 2 hat")).text(), "9 a 2 hat")
+
+    def test_the_least_lot_with_greater_numbers(self):
+        for counts, expected in (
+            ("-", "-"), ("1 y", "1 y"), ("1 k", "1 k"), ("1 k 1 m", "1 k"), ("3 k 1 y", "1 k 1 y"),
+            ("1 a 2 k 9 m 1 y", "5 m 1 y"), ("1 y 1 z", "1 y 1 z"), ("6 k 11 m 1 y 1 z", "1 k 1 y 1 z"),
+            ("2 hat", "2 hat"),
+        ):
+            start = lot(counts)
+            found = least_with(ROWS, start)
+            self.assertEqual(found.text(), expected)
+            self.assertTrue(start.within(numbers(ROWS, found)))
+            self.new(found, start)
+            self.assertEqual(start.text(), counts)
 
     def test_lack(self):
         for stock, ask, expected in (

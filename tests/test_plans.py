@@ -260,6 +260,14 @@ class LeftTest(unittest.TestCase):
             Plan(((PAIR, 1),)).left(Lot.of("1 pair"), Lot.of("2 cup 3 pair"))
         self.assertEqual((caught.exception.kind, caught.exception.lacking), ("pair", 3))
 
+    def test_what_goes_and_what_comes(self):
+        plan = Plan(((PAIR, GREAT), (BOX, 2), (SET, 3)))
+        self.assertEqual(plan.gone().text(), f"5 box {GREAT} pair")
+        self.assertEqual(plan.come().text(), f"{2 * GREAT + 3} cup 6 pair 3 tea")
+        plan.gone()["box"] = plan.come()["cup"] = 0
+        self.assertEqual((plan.gone()["box"], plan.come()["cup"]), (5, 2 * GREAT + 3))
+        self.assertEqual((Plan().gone(), Plan().come()), (Lot(), Lot()))
+
     def test_counts_are_a_new_ascending_list(self):
         plan = Plan(((PAIR, 2), (BOX, 1)))
         plan.counts().clear()
