@@ -9,7 +9,7 @@ def _ascending(lots):
     return [Lot(pairs) for pairs in sorted(set([lot.pairs() for lot in lots]))]
 
 
-def _opened_once(book, lot):
+def opened_once(book, lot):
     """The Lots that one Opening makes of a Lot."""
     return [Plan(((opening, 1),)).after(lot) for opening in book.openings() if opening.kind in lot]
 
@@ -20,7 +20,7 @@ def becomes(book, stock):
     waiting = [stock]
     while waiting:
         lot = waiting.pop()
-        for after in _opened_once(book, lot):
+        for after in opened_once(book, lot):
             if after.pairs() not in found:
                 found[after.pairs()] = after
                 waiting.append(after)
@@ -32,6 +32,6 @@ def leftovers(book, stock, ask):
     left = [lot - ask for lot in becomes(book, stock) if ask.within(lot)]
     # Whatever one of these becomes is one of them, too. So one that another one gives comes from one of them by one
     # Opening, or lies in one of them.
-    later = {after.pairs(): True for lot in left for after in _opened_once(book, lot)}
+    later = {after.pairs(): True for lot in left for after in opened_once(book, lot)}
     first = [lot for lot in left if lot.pairs() not in later]
     return _ascending([lot for lot in first if not any([lot.within(other) for other in left if other != lot])])

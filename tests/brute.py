@@ -130,3 +130,24 @@ def is_regret(rows, stock, ask, first, second):
     if not all(gives(rows, stock, added(ask, more)) for more in (first, second)):
         return False
     return not any(gives(rows, left, first) and gives(rows, left, second) for left in left_behind(rows, stock, ask))
+
+
+def is_unsafe(rows, stock):
+    """Whether there are two or more greatest leftovers behind some ask that the stock gives."""
+    return any(len(leftovers(rows, stock, ask)) > 1 for ask in given(rows, stock))
+
+
+def holds(rows, stock, promises):
+    """Whether some keeper serves every row of asks within one of the promises, the asks being of any size."""
+    known = {}
+
+    def wins(left, asked):
+        """Whether it does so from what is left, when so much was asked already."""
+        if (left, asked) not in known:
+            more = {part for promise in promises if lies_in(asked, promise)
+                    for part in parts_of(added(promise, asked, -1)) if part}
+            known[left, asked] = all(
+                any(wins(rest, added(asked, part)) for rest in left_behind(rows, left, part)) for part in more)
+        return known[left, asked]
+
+    return wins(stock, ())

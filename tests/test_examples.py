@@ -3,15 +3,19 @@
 import unittest
 
 from onceopened.books import Book, Opening
+from onceopened.desk import answers
 from onceopened.errors import BadText, Regretted, Short, Uneven
 from onceopened.forms import alike, covers, form, idle, parted
 from onceopened.lattices import is_tree, skew, torn
 from onceopened.lots import Lot
 from onceopened.numbers import forked, join, lack, lot_of, meet, numbers, times
 from onceopened.plans import Plan, gives, plan_for
+from onceopened.prices import cheapest, need, price
 from onceopened.regrets import Hand, Regret, asked_only, is_regret, regret, shared
 from onceopened.remains import becomes, leftovers
+from onceopened.retold import doubt, retold
 from onceopened.shelves import Shelf, least, leftover
+from onceopened.stocks import holds, unsafe
 
 
 class ExamplesTest(unittest.TestCase):
@@ -188,4 +192,57 @@ class ExamplesTest(unittest.TestCase):
             ([lot.text() for lot in leftovers(deep, Lot.of("1 y 1 z"), Lot.of("1 x"))],
              [lot.text() for lot in leftovers(deep, Lot.of("1 w"), Lot.of("1 x"))]),
             (["1 t 1 z", "1 u 1 y"], ["1 q"]),
+        )
+
+    def test_prices(self):
+        plain, coins = Book.of("box = 3 pair 2 tag\npair = 2 cup"), {"box": 9, "cup": 2, "pair": 3, "tag": 2}
+        self.assertEqual(
+            (cheapest(plain, Lot(), Lot.of("7 cup 2 tag"), coins).text(),
+             price(Lot.of("1 cup 3 pair 2 tag"), {"cup": 2, "pair": 3, "tag": 2})),
+            ("1 box 1 cup", 15),
+        )
+        customers = [[Lot.of("1 box"), Lot.of("7 cup")], [Lot.of("2 pair")]]
+        self.assertEqual(need(plain, customers).text(), "1 box 1 cup 2 pair")
+
+    def test_retold(self):
+        first, second = Opening("box", Lot.of("3 pair")), Opening("pair", Lot.of("2 cup"))
+        book = Book((first, second))
+        plan = retold(book, Lot.of("2 box"), Lot.of("3 cup 1 pair"), Lot.of("1 box 1 cup"))
+        self.assertEqual((plan[first], plan[second], doubt(book)), (1, 2, None))
+        self.assertEqual(
+            (doubt(Book.of("y = 1 p\ny = 1 q\nz = 1 p\nz = 1 q"))[0].text(),
+             doubt(Book.of("y = 2 x\ny = 12 p\nx = 6 p"))[0].text()),
+            ("1 y 1 z", "1 y"),
+        )
+
+    def test_stocks(self):
+        book, stock = Book.of("case = 1 cup 1 pack\npack = 1 cup 1 lid"), Lot.of("1 case 1 pack")
+        self.assertEqual(
+            (unsafe(book, stock) is None, unsafe(book, Lot.of("2 case")) is None,
+             unsafe(book, Lot.of("1 case 2 cup")) is None),
+            (False, False, True),
+        )
+        one, other = Lot.of("1 case 1 cup"), Lot.of("1 cup 2 pack")
+        self.assertEqual(
+            (holds(book, stock, [one]), holds(book, stock, [other]), holds(book, stock, [one, other])),
+            (True, True, False),
+        )
+        deep = Book.of("w = 1 y 1 z\nw = 1 v\nv = 1 q 1 x\nq = 1 t 1 z\nq = 1 u 1 y\ny = 1 t 1 x\nz = 1 u 1 x")
+        self.assertEqual(
+            (unsafe(deep, Lot.of("1 y 1 z")) is None, unsafe(deep, Lot.of("1 w")) is None), (False, True))
+
+    def test_desk(self):
+        self.assertEqual(
+            answers("box = 3 pair\npair = 2 cup\n\nleft\nstock 2 box\nask 1 cup\nleft\noften 3 cup\nask 2 box\nask -\n"
+                    "arrive 1 box\nask 2 box\nopened\nundo\nleft\noften -\nstock -\nundo"),
+            ["no stock", "ok", "1 x box = 3 pair; 1 x pair = 2 cup", "1 box 1 cup 2 pair", "3", "refused Short box 1",
+             "-", "ok", "-", "1 x box = 3 pair; 1 x pair = 2 cup", "ok", "2 box 1 cup 2 pair", "refused Nothing", "ok",
+             "refused NoDeed"],
+        )
+        self.assertEqual(
+            answers("gift = 2 cup 1 tea\nrack = 4 cup\n\nstock 1 gift 1 rack\nshared\nforked\nidle\nform\n"
+                    "numbers 1 gift 1 rack\ngives 1 gift 1 rack > 6 cup\n"
+                    "gives 1 gift 1 rack > 1 cup 1 gift 1 rack\nask 1 cup"),
+            ["refused Regretted cup", "cup", "-", "-", "gift = 2 cup 1 tea; rack = 4 cup", "6 cup 1 gift 1 rack 1 tea",
+             "yes", "no", "no stock"],
         )

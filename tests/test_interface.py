@@ -3,7 +3,8 @@
 import inspect
 import unittest
 
-from onceopened import books, forms, lattices, lots, numbers, plans, regrets, remains, shelves
+from onceopened import (
+    books, desk, forms, lattices, lots, numbers, plans, prices, regrets, remains, retold, shelves, stocks)
 from onceopened.books import Book, Opening
 from onceopened.lots import Lot
 from onceopened.plans import Plan
@@ -35,11 +36,13 @@ FUNCTIONS = {
         "forked(book) numbers(book, lot) lot_of(book, counts) lack(book, stock, ask) meet(book, one, other) "
         "join(book, one, other) times(book, stock, ask)"
     ),
-    regrets: (
-        "shared(book) regret(book) is_regret(book, stock, ask, first, second) asked_only(book, kinds)"
-    ),
+    regrets: "shared(book) regret(book) is_regret(book, stock, ask, first, second) asked_only(book, kinds)",
     shelves: "least(book, stock, ask) leftover(book, stock, ask)",
     lattices: "torn(book) skew(book) is_tree(book)",
+    prices: "need(book, customers) price(lot, prices) cheapest(book, stock, ask, prices)",
+    retold: "doubt(book) retold(book, before, served, after)",
+    stocks: "unsafe(book, stock) holds(book, stock, promises)",
+    desk: "answers(text)",
 }
 
 
