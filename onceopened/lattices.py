@@ -3,7 +3,14 @@
 from onceopened.forms import form
 from onceopened.lots import one_of
 from onceopened.numbers import join, numbers, unforked
-from onceopened.regrets import two_holders
+
+
+def _two_holders(kept, kind):
+    """Two Openings that hold a shared kind; the kind of the first one is not inside that of the second one."""
+    one, other = kept.holders(kind)[:2]
+    if one.kind in kept.inside(other.kind):
+        return other, one
+    return one, other
 
 
 def torn(book):
@@ -23,7 +30,7 @@ def skew(book):
     kinds = kept.shared_kinds()
     if len(kinds) == 0:
         return None
-    one, other = two_holders(kept, kinds[0])
+    one, other = _two_holders(kept, kinds[0])
     left = one_of(one.kind)
     # More of the other holder than the left Lot has, so that their join has more of both than either of them.
     right = one_of(other.kind) * (numbers(kept, left)[other.kind] + 1)

@@ -3,7 +3,7 @@
 from onceopened.books import Book, Opening
 from onceopened.errors import Forked, NoRegret, Short, Taken
 from onceopened.forms import form
-from onceopened.lots import Lot, copy_of, one_of
+from onceopened.lots import copy_of, one_of
 from onceopened.numbers import join
 from onceopened.plans import Plan, gives, plan_for
 from onceopened.remains import leftovers
@@ -46,14 +46,6 @@ def _left_by(keeper, book, stock, asks):
         return None
 
 
-def two_holders(kept, kind):
-    """Two Openings that hold a shared kind; the kind of the first one is not inside that of the second one."""
-    rows = kept.holders(kind)
-    if rows[0].kind in kept.inside(rows[1].kind):
-        return rows[1], rows[0]
-    return rows[0], rows[1]
-
-
 def shared(book):
     """The ascending list of the kinds that lie in at least two Openings of the form of the Book."""
     return form(book).shared_kinds()
@@ -65,14 +57,14 @@ def regret(book):
     kinds = kept.shared_kinds()
     if len(kinds) == 0:
         return None
-    one, other = two_holders(kept, kinds[0])
+    one, other = kept.holders(kinds[0])[:2]
     ask = one_of(kinds[0])
-    # What else comes out of the one Opening and of the other one: one piece of the shared kind leaves only either.
+    # Whoever does one of the two Openings for a piece of the shared kind can no longer have what the other one leaves.
     first, second = one.contents - ask, other.contents - ask
     if one.kind == other.kind:
         return Regret(book, one_of(one.kind), ask, first, second)
-    outer, inner = one_of(one.kind), one_of(other.kind)
-    return Regret(book, outer + inner, ask, first + inner, second + outer)
+    left, right = one_of(one.kind), one_of(other.kind)
+    return Regret(book, left + right, ask, first + right, second + left)
 
 
 def is_regret(book, stock, ask, first, second):

@@ -14,7 +14,7 @@ def _becoming(book, lots):
     places = {lot.pairs(): at for at, lot in enumerate(lots)}
     found = [1 << at for at in range(len(lots))]
     # Each opening lowers the worth, so at its turn a Lot has all those that become it.
-    for _, at in sorted(set([(-book.worth(lot), at) for at, lot in enumerate(lots)])):
+    for _, at in sorted(set([(book.worth(lot), at) for at, lot in enumerate(lots)]))[::-1]:
         for after in opened_once(book, lots[at]):
             later = places[after.pairs()]
             found[later] = found[later] | found[at]
@@ -27,15 +27,16 @@ def _having(lots):
     for at, lot in enumerate(lots):
         for kind, many in lot.pairs():
             for less in range(many):
-                found[kind, less + 1] = found.get((kind, less + 1), 0) | 1 << at
+                key = (kind, less + 1)
+                found[key] = found.get(key, 0) | (1 << at)
     return found
 
 
 def _holding(having, every, lot):
-    """The set of the Lots in which a Lot lies, every being that of all Lots."""
+    """The set of the Lots in which a Lot lies that lies in one of them, every being that of all Lots."""
     found = every
     for pair in lot.pairs():
-        found = found & having.get(pair, 0)
+        found = found & having[pair]
     return found
 
 
@@ -43,7 +44,7 @@ def _giving(becoming, holding):
     """The set of the Lots that give a Lot, holding being that of those in which it lies."""
     found = 0
     for at, before in enumerate(becoming):
-        if holding >> at & 1 == 1:
+        if (holding >> at) & 1 == 1:
             found = found | before
     return found
 

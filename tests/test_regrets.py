@@ -81,6 +81,10 @@ class RegretOfABookTest(unittest.TestCase):
             self.assertIsNotNone(self.check(book), text)
             self.assertEqual(book, Book.of(text))
 
+    def test_one_piece_is_enough_if_its_own_openings_share_a_kind(self):
+        self.assertEqual(regret(Book.of("y = 1 p 1 q\ny = 2 p")).stock.text(), "1 y")
+        self.assertEqual(regret(Book.of("y = 1 p 1 q\nz = 2 p")).stock.text(), "1 y 1 z")
+
     def test_small_books(self):
         _, books = brute.books(20, 500)
         told = []
